@@ -1,0 +1,1 @@
+"""Stillspans: tables that lead rows, and the spans that they leave still."""

@@ -1,0 +1,49 @@
+"""The interface: names, arguments, and the files in which they are defined."""
+
+import ast
+import inspect
+import unittest
+from importlib import import_module
+from pathlib import Path
+
+PACKAGE = Path(__file__).resolve().parent.parent / "stillspans"
+
+FUNCTIONS = {
+    "spans": ("low(p, rows)", "is_low(p, thing)", "has(p, form, row)", "shares(p, form, row)",
+              "together(p, one, other)", "crossing(p, one, other)", "across(p, length, form)"),
+    "polys": ("is_poly(p, thing)", "poly_sum(p, one, other)", "poly_times(p, one, other)",
+              "common(p, one, other)", "parted(p, one, other)", "is_bare(p, poly)",
+              "bare_parts(p, poly)"),
+}
+
+CLASSES = {
+    "errors": ("SpanError", "NoPart", "NoWord", "NoPaper", "NoTower", "NoPair", "NotTight",
+               "TooMuch", "NoText", "NoRow", "NoName"),
+}
+
+
+def defined(file, kind):
+    """The names that a file of the package defines at module level."""
+    tree = ast.parse((PACKAGE / f"{file}.py").read_text(encoding="utf-8"))
+    return [node.name for node in tree.body if isinstance(node, kind)]
+
+
+class Interface(unittest.TestCase):
+    def test_functions(self):
+        for file, listed in FUNCTIONS.items():
+            module = import_module(f"stillspans.{file}")
+            for told in listed:
+                name = told.split("(")[0]
+                with self.subTest(function=told):
+                    self.assertIn(name, defined(file, ast.FunctionDef))
+                    self.assertEqual(name + str(inspect.signature(getattr(module, name))), told)
+
+    def test_classes(self):
+        for file, listed in CLASSES.items():
+            for name in listed:
+                with self.subTest(name=name):
+                    self.assertIn(name, defined(file, ast.ClassDef))
+
+
+if __name__ == "__main__":
+    unittest.main()
