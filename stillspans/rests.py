@@ -1,17 +1,24 @@
-"""What rows and polynomials share: rests by a prime, and mixtures."""
+"""What the other files share: whole numbers, rests by a prime, and mixtures."""
+
+PRIMES = (2, 3, 5, 7, 11)
+
+
+def is_whole(thing):
+    """Whether any thing is a whole number."""
+    # True and False are ints for Python, but no whole numbers here
+    return isinstance(thing, int) and not isinstance(thing, bool)
+
+
+def is_below(bound, thing):
+    """Whether any thing is a whole number from 0 on below the bound."""
+    return is_whole(thing) and 0 <= thing < bound
 
 
 def is_rests(p, thing):
     """Whether any thing is a list of rests by p."""
     if not isinstance(thing, list):
         return False
-    for number in thing:
-        # True and False are ints for Python, but no whole numbers here
-        if not isinstance(number, int) or isinstance(number, bool):
-            return False
-        if number < 0 or number >= p:
-            return False
-    return True
+    return all([is_below(p, number) for number in thing])
 
 
 def inverse(p, rest):

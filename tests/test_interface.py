@@ -14,6 +14,13 @@ FUNCTIONS = {
     "polys": ("is_poly(p, thing)", "poly_sum(p, one, other)", "poly_times(p, one, other)",
               "common(p, one, other)", "parted(p, one, other)", "is_bare(p, poly)",
               "bare_parts(p, poly)"),
+    "tables": ("led(p, row, table)", "product(p, one, other)", "table_sum(p, one, other)",
+               "multiple(p, rest, table)", "turned(table)", "plain(size)", "rank(p, table)",
+               "image(p, table)", "to_nought(p, table)", "contrary(p, table)",
+               "put_on(p, poly, table)", "least(p, table)", "least_of(p, table, row)"),
+    "crews": ("is_crew(thing)", "turned_crew(crew)", "worths(crew, word)"),
+    "spins": ("is_still(crew, form)", "spin(crew, rows)", "spun(crew, row)"),
+    "looker": ("look(crew, paper)",),
 }
 
 CLASSES = {

@@ -1,4 +1,4 @@
-"""Rules of the language that a plain look at the files can see (L1, L2, L7, L8, L10, L14, L27)."""
+"""Rules of the language that a plain look at the files can see (L1, L2, L7, L8, L10, L14 to L16, L27)."""
 
 import ast
 import builtins
@@ -42,6 +42,12 @@ def own_names(listed):
     return found
 
 
+def imports_of(tree):
+    """The imports of a file, as tuples of the file that they name and the name."""
+    return [(node.module, alias.name) for node in tree.body if isinstance(node, ast.ImportFrom)
+            for alias in node.names]
+
+
 class Language(unittest.TestCase):
     def test_only_files_with_plain_names(self):
         for path in files():
@@ -81,6 +87,40 @@ class Language(unittest.TestCase):
                     self.assertTrue(node.module.startswith("stillspans.")
                                     or node.module in LIBRARY, (path, node.module))
                     self.assertFalse([name for name in node.names if name.name == "*"], path)
+
+    def test_imports_name_the_file_that_defines_the_name(self):
+        bound = {}
+        for path, tree in trees():
+            names = [node.name for node in tree.body
+                     if isinstance(node, (ast.FunctionDef, ast.ClassDef))]
+            names += [target.id for node in tree.body if isinstance(node, ast.Assign)
+                      for target in node.targets]
+            self.assertEqual(len(names), len(set(names)), path)
+            bound[f"stillspans.{path.stem}"] = names
+        for path, tree in trees():
+            for module, name in imports_of(tree):
+                if module not in LIBRARY:
+                    self.assertIn(name, bound[module], path)
+
+    def test_no_two_files_import_from_each_other(self):
+        needed = {f"stillspans.{path.stem}": {module for module, _ in imports_of(tree)}
+                  for path, tree in trees()}
+        while needed:
+            free = [name for name, others in needed.items() if not others & set(needed)]
+            self.assertTrue(free, needed)
+            for name in free:
+                del needed[name]
+
+    def test_no_variable_has_the_name_of_an_import_or_a_class(self):
+        for path, tree in trees():
+            taken = [name for _, name in imports_of(tree)]
+            taken += [node.name for node in tree.body if isinstance(node, ast.ClassDef)]
+            self.assertEqual(len(taken), len(set(taken)), path)
+            for node in ast.walk(tree):
+                if isinstance(node, ast.arg):
+                    self.assertNotIn(node.arg, taken, (path, node.lineno))
+                if isinstance(node, ast.Name) and isinstance(node.ctx, ast.Store):
+                    self.assertNotIn(node.id, taken, (path, node.lineno))
 
     def test_builtins(self):
         known = set(dir(builtins)) - {"__name__"}

@@ -3,8 +3,10 @@
 import unittest
 from copy import deepcopy
 
-from stillspans import polys, spans
-from tests.helper import PRIMES, Draw, lists_within, spoil
+from stillspans import crews, looker, polys, spans, spins, tables
+from stillspans.errors import NoPart, NoPaper, NoWord
+from tests.helper import (LARGEST, PRIMES, Draw, crew_with_a_still_span, drawn_word, lists_within,
+                          spoil, unit_rows)
 
 
 def spans_asked(p):
@@ -54,11 +56,100 @@ def polys_asked(p):
     yield polys.is_poly, (p, ([1], [2]))
 
 
+def tables_asked(p):
+    """Calls of stillspans.tables, as tuples of a function and its arguments."""
+    draw = Draw(1000 + p)
+    row = draw.row(p, 3)
+    for table in ([[0]], [[0, 0]] * 2, [row] * 3, unit_rows(3), draw.rows(p, 2, 2),
+                  draw.rows(p, 2, 5), draw.rows(p, 5, 2), draw.rows(p, 6, 6)):
+        rows, columns = len(table), len(table[0])
+        row = draw.row(p, rows)
+        yield tables.led, (p, row, table)
+        yield tables.product, (p, table, draw.rows(p, columns, 3))
+        yield tables.product, (p, unit_rows(rows), table)
+        yield tables.table_sum, (p, table, table)
+        yield tables.table_sum, (p, table, [[0] * columns for _ in range(rows)])
+        for rest in (0, 1, p - 1):
+            yield tables.multiple, (p, rest, table)
+        yield tables.turned, (table,)
+        yield tables.plain, (rows,)
+        for function in (tables.rank, tables.image, tables.to_nought):
+            yield function, (p, table)
+        if rows == columns:
+            yield tables.product, (p, table, table)
+            yield tables.contrary, (p, table)
+            yield tables.least, (p, table)
+            for poly in ([], [1], [0, 1], draw.poly(p, 3)):
+                yield tables.put_on, (p, poly, table)
+            for one in (row, [0] * rows, table[0]):
+                yield tables.least_of, (p, table, one)
+
+
+def crews_asked(p):
+    """Calls of stillspans.crews and stillspans.spins, as tuples likewise."""
+    draw = Draw(1100 + p)
+    size = dict(LARGEST)[p]
+    table = draw.rows(p, size, size)
+    for crew in ((p, size, [table, table]), (p, 1, [[[1]]]), (p, 2, [[[1, 1]] * 2] * 4),
+                 crew_with_a_still_span(draw, p, size, 1, 3)):
+        size = crew[1]
+        yield crews.is_crew, (crew,)
+        yield crews.is_crew, (list(crew),)
+        yield crews.turned_crew, (crew,)
+        twice = [("plain",), ("plain",), ("table", 0), ("table", 0), ("times", 1, 2),
+                 ("times", 0, 2), ("sum", 2, 2), ("sum", 2, 5), ("product", 0, 0),
+                 ("product", 0, 2), ("product", 2, 0)]
+        for word in ([("plain",)], twice, drawn_word(draw, crew, 20)):
+            yield crews.worths, (crew, word)
+        row = draw.row(p, size - 1) + [1]
+        for form in ([], unit_rows(size), spans.low(p, [row]), spins.spin(crew, [row])):
+            yield spins.is_still, (crew, form)
+            yield spins.spin, (crew, form)
+        for rows in ([row], [row] * 6, [[0] * size] * 2, draw.rows(p, 2, size)):
+            yield spins.spin, (crew, rows)
+            yield spins.spun, (crew, rows[0])
+
+
+# crews and papers that are let by
+PAPERS = (((3, 2, [[[1, 1], [0, 1]], [[0, 1], [1, 0]]]),
+           ("tight", [("table", 0)], [2, 1], [0, 1], [1, 0])),
+          ((3, 2, [[[1, 1], [0, 1]]]), ("still", [[0, 1]])))
+
+WRONG_WORDS = ([], [("plain",), ["plain"]], ["plain", [0]], ([("plain",)],), [0] * 2001)
+
+WRONG_PAPERS = (["still", [[0, 1]]], ("still", [[0, 1]]), ("still", [[0, 2]]), ("still", [[], []]),
+                ("tight", [["plain"]], [2, 1], [0, 1], [1, 0]),
+                ("tight", [("plain",)], [2, 1], [0, 1], [1, 0]),
+                ("tight", [("table", 0)], [1, 2], [0, 1], [1, 0]),
+                ("tight", [("table", 0)], [2, 1], [1, 0], [1, 0]),
+                ("tight", [("table", 0)], [2, 1], [0, 1], [0, 1]))
+
+
+def refused():
+    """Calls that are refused, as tuples of a function, its arguments and the refusal."""
+    yield polys.parted, (3, [1, 1], []), NoPart
+    yield polys.bare_parts, (3, []), NoPart
+    for word in WRONG_WORDS:
+        yield crews.worths, (PAPERS[0][0], word), NoWord
+    for paper in WRONG_PAPERS:
+        yield looker.look, (PAPERS[0][0], paper), NoPaper
+
+
+def parts_within(thing):
+    """Each thing within a thing, itself too."""
+    yield thing
+    if isinstance(thing, (list, tuple)):
+        for inner in thing:
+            yield from parts_within(inner)
+
+
 class Own(unittest.TestCase):
     def asked(self):
         for p in PRIMES:
-            for function, handed in list(spans_asked(p)) + list(polys_asked(p)):
-                yield function, handed
+            for some in (spans_asked, polys_asked, tables_asked, crews_asked):
+                yield from some(p)
+        for handed in PAPERS:
+            yield looker.look, handed
 
     def test_what_is_handed_in_stays(self):
         for function, handed in self.asked():
@@ -93,21 +184,27 @@ class Own(unittest.TestCase):
     def test_whole_numbers_are_no_truths(self):
         for function, handed in self.asked():
             told = function(*handed)
-            if not function.__name__.startswith(("is_", "has")):
-                for one in lists_within(told):
-                    for inner in one:
-                        self.assertIn(type(inner), (int, list, tuple), function.__name__)
-            else:
+            if function.__name__.startswith(("is_", "has")):
                 self.assertIs(type(told), bool)
+            elif told is not None:
+                for one in parts_within(told):
+                    self.assertIn(type(one), (int, list, tuple), function.__name__)
 
     def test_refusals_change_nothing(self):
-        for p in PRIMES:
-            one, other = [1, 1], []
-            with self.assertRaises(ValueError):
-                polys.parted(p, one, other)
-            with self.assertRaises(ValueError):
-                polys.bare_parts(p, other)
-            self.assertEqual((one, other), ([1, 1], []))
+        for function, handed, refusal in refused():
+            before = deepcopy(handed)
+            with self.assertRaises(refusal):
+                function(*handed)
+            self.assertEqual(handed, before, function.__name__)
+
+    def test_what_is_handed_in_may_be_what_was_told(self):
+        crew, paper = PAPERS[0]
+        told = crews.turned_crew(crew)
+        self.assertEqual(crews.turned_crew(told), crew)
+        worths = crews.worths(told, paper[1])
+        self.assertIsNone(looker.look(told, paper[:3] + (paper[4], paper[3])))
+        row = tables.to_nought(3, tables.put_on(3, paper[2], worths[-1]))[0]
+        self.assertEqual(spins.spin(told, [one for one, _ in spins.spun(told, row)]), unit_rows(2))
 
 
 if __name__ == "__main__":

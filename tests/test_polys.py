@@ -6,7 +6,8 @@ from stillspans.errors import NoPart, SpanError
 from stillspans import errors
 from stillspans.polys import (bare_parts, common, is_bare, is_poly, parted, poly_sum,
                               poly_times)
-from tests.helper import NO_LISTS, NO_RESTS, PRIMES, Draw, all_polys, times_plainly
+from tests.helper import (NO_LISTS, NO_RESTS, PRIMES, Draw, all_polys, bare_plainly,
+                          times_plainly)
 
 # by each prime: the greatest degree handed in, and one to which all are gone through two by two
 DEGREES = ((2, 12, 4), (3, 8, 2), (5, 5, 1), (7, 4, 1), (11, 3, 1))
@@ -36,17 +37,6 @@ def sum_plainly(p, one, other):
 
 def divides(p, one, other):
     return parted(p, other, one)[1] == [] if one else other == []
-
-
-def bare_plainly(p, most):
-    """All bare ones up to the degree, by striking out every product of two of lesser degrees."""
-    polys = [poly for poly in all_polys(p, most) if len(poly) > 1]
-    products = set()
-    for one in polys:
-        for other in polys:
-            if one[-1] == 1 and len(one) <= len(other) and len(one) + len(other) - 2 <= most:
-                products.add(tuple(times_plainly(p, one, other)))
-    return [poly for poly in polys if tuple(poly) not in products]
 
 
 class IsPoly(unittest.TestCase):
@@ -224,7 +214,7 @@ class Bare(unittest.TestCase):
 
     def test_all_small_ones_against_a_plain_search(self):
         for p, most in SEARCHED:
-            bare = {tuple(poly) for poly in bare_plainly(p, most)}
+            bare = bare_plainly(p, most)
             for poly in all_polys(p, most):
                 self.assertIs(is_bare(p, poly), tuple(poly) in bare, (p, poly))
                 if poly:

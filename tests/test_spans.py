@@ -4,14 +4,10 @@ import unittest
 
 from stillspans.spans import across, crossing, has, is_low, low, shares, together
 from tests.helper import (PRIMES, Draw, all_lists_of_rows, all_rows, low_by_the_words, mixed,
-                          mixtures)
+                          mixtures, unit_rows)
 
 SMALL = ((2, 1, 3), (2, 2, 3), (2, 3, 3), (3, 1, 2), (3, 2, 3), (5, 1, 2), (5, 2, 2), (7, 2, 2),
          (11, 1, 2))
-
-
-def unit_rows(length):
-    return [[1 if at == place else 0 for at in range(length)] for place in range(length)]
 
 
 def forms(p, length):
