@@ -1,6 +1,6 @@
 """Crews, tuples (prime, size, tables), and the tables to which their words come."""
 
-from stillspans.errors import NoWord
+from stillspans.errors import NoPair, NoWord
 from stillspans.rests import PRIMES, is_below, is_rests, is_whole
 from stillspans.tables import multiple, plain, product, table_sum, turned
 
@@ -20,11 +20,11 @@ def fits(p, size):
     return rows <= MOST_ROWS
 
 
-def is_table(p, size, thing):
+def is_table(p, rows, columns, thing):
     """Whether any thing is a table of rests with so many rows and columns."""
-    if not isinstance(thing, list) or len(thing) != size:
+    if not isinstance(thing, list) or len(thing) != rows:
         return False
-    return all([is_rests(p, row) and len(row) == size for row in thing])
+    return all([is_rests(p, row) and len(row) == columns for row in thing])
 
 
 def is_crew(thing):
@@ -36,7 +36,13 @@ def is_crew(thing):
         return False
     if not isinstance(tables, list) or len(tables) < 1 or len(tables) > MOST_TABLES:
         return False
-    return all([is_table(p, size, table) for table in tables])
+    return all([is_table(p, size, size, table) for table in tables])
+
+
+def refuse_unfit(one, other):
+    """Refuse two crews that have not one prime and as many tables."""
+    if one[0] != other[0] or len(one[2]) != len(other[2]):
+        raise NoPair("the crews have not one prime and as many tables")
 
 
 def turned_crew(crew):

@@ -1,7 +1,7 @@
 """Polynomials by a prime: lists of rests, the last one not 0; nought is []."""
 
 from stillspans.errors import NoPart
-from stillspans.rests import inverse, is_rests, multiplied_by
+from stillspans.rests import all_rows, inverse, is_rests, multiplied_by
 
 
 def is_poly(p, thing):
@@ -70,10 +70,7 @@ def common(p, one, other):
 
 def all_of_degree(p, degree):
     """All polynomials of the degree whose last rest is 1, rising as lists."""
-    heads = [[]]
-    for _ in range(degree):
-        heads = [head + [rest] for head in heads for rest in range(p)]
-    return [head + [1] for head in heads]
+    return [head + [1] for head in all_rows(p, degree)]
 
 
 def taken_out(p, poly, one):

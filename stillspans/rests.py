@@ -1,4 +1,4 @@
-"""What the other files share: whole numbers, rests by a prime, and mixtures."""
+"""What the other files share: whole numbers, rests by a prime, rows and mixtures."""
 
 PRIMES = (2, 3, 5, 7, 11)
 
@@ -32,6 +32,14 @@ def inverse(p, rest):
 def multiplied_by(p, rest, rests):
     """A new list: each of the rests times one rest."""
     return [rest * number % p for number in rests]
+
+
+def all_rows(p, length):
+    """All rows of rests of the length, rising as lists."""
+    rows = [[]]
+    for _ in range(length):
+        rows = [row + [rest] for row in rows for rest in range(p)]
+    return rows
 
 
 def mixture(p, shares, rows, length):

@@ -12,11 +12,12 @@ def is_still(crew, form):
 
 def spin(crew, rows):
     """The form of the least still span that has the rows."""
-    p, _, tables = crew
+    p, size, tables = crew
     form = low(p, rows)
     before = []
-    # the one lies within the other: once as many rows come, it is the same span
-    while len(form) > len(before):
+    # the one lies within the other: once as many rows come, it is the same span, and
+    # once it is all no more come
+    while len(before) < len(form) < size:
         before = form
         form = low(p, before + [led(p, row, table) for table in tables for row in before])
     return form

@@ -1,7 +1,7 @@
 """Tables of rests by a prime: a table leads each row to the sum of its rows' multiples."""
 
 from stillspans.polys import with_one_behind
-from stillspans.rests import mixture, multiplied_by
+from stillspans.rests import inverse, mixture, multiplied_by
 from stillspans.spans import across, low
 
 
@@ -94,3 +94,38 @@ def least_of(p, table, row):
     while not (found := to_nought(p, rows)):
         rows.append(led(p, rows[-1], table))
     return with_one_behind(p, found[0])
+
+
+def shaped(row, columns):
+    """The table that is written as the row, its rows one behind the other."""
+    return [row[at:at + columns] for at in range(0, len(row), columns)]
+
+
+def shares_to(p, rows, row):
+    """Multiples of the rows whose sum is the row, or None."""
+    for found in to_nought(p, rows + [row]):
+        if found[-1] != 0:
+            return multiplied_by(p, inverse(p, -found[-1] % p), found[:-1])
+    return None
+
+
+def spread(p, one, other):
+    """The table that has, for each number of the one in its place, that multiple of the other."""
+    return [[a * b % p for a in row for b in beside] for row in one for beside in other]
+
+
+def off(p, one, between, other):
+    """The product of the one and the table between, less that of it and the other."""
+    behind = multiple(p, p - 1, product(p, between, other))
+    return table_sum(p, product(p, one, between), behind)
+
+
+def all_along(p, ones, others):
+    """The form of the tables, each written as a row, that go along from the ones to the others."""
+    columns = len(others[0])
+    form = plain(len(ones[0]) * columns)
+    for one, other in zip(ones, others):
+        left = [flat(off(p, one, shaped(row, columns), other)) for row in form]
+        # those shares are low, as the form is: so is what they mix of it
+        form = product(p, to_nought(p, left), form)
+    return form

@@ -210,6 +210,109 @@ def spin_plainly(crew, rows):
     return found
 
 
+def one_of_each_line(p, length):
+    """Of each row and its multiples, noughts alone left out, the one with 1 as its first other number."""
+    return [row for row in all_rows(p, length) if any(row) and [n for n in row if n][0] == 1]
+
+
+def is_still_plainly(crew, form):
+    p, size, tables = crew
+    span = mixtures(p, form, size)
+    return all(tuple(led_plainly(p, row, table)) in span for row in form for table in tables)
+
+
+def tight_plainly(crew):
+    """Whether each row but noughts spins to all."""
+    p, size, _ = crew
+    return all(len(spin_plainly(crew, [row])) == p ** size for row in one_of_each_line(p, size))
+
+
+def added(p, span, other):
+    """All sums of a row of the one span and a row of the other, as a set of tuples."""
+    for row in other:
+        if row not in span:
+            span = widened(p, span, row)
+    return frozenset(span)
+
+
+def still_spans_plainly(crew):
+    """All still spans, as sets of tuples: each is the sum of its rows' spins."""
+    p, size, _ = crew
+    found = {frozenset([(0,) * size])}
+    for spun in {frozenset(spin_plainly(crew, [row])) for row in one_of_each_line(p, size)}:
+        found |= {added(p, span, spun) for span in found}
+    return found
+
+
+def put_in(table, row, column, block):
+    """Put the block into the table, its first number at that row and column."""
+    for i, numbers in enumerate(block):
+        table[row + i][column:column + len(numbers)] = numbers
+
+
+def companion(p, poly):
+    """The table of the poly's degree, the last rest 1, that it leads to noughts."""
+    size = len(poly) - 1
+    return unit_rows(size)[1:] + [[-rest % p for rest in poly[:-1]]]
+
+
+def over_a_field(draw, p, poly, times, many):
+    """A drawn crew of tables in blocks, each of them a polynomial put on one table."""
+    own = companion(p, poly)
+    degree = len(own)
+    tables = []
+    for _ in range(many):
+        table = [[0] * (times * degree) for _ in range(times * degree)]
+        for i in range(times):
+            for j in range(times):
+                put_in(table, i * degree, j * degree, put_on_plainly(p, draw.row(p, degree), own))
+        tables.append(table)
+    return p, times * degree, tables
+
+
+def crews_over_fields(seed, many):
+    """Drawn crews of each size over each field by each prime, mostly tight ones."""
+    draw = Draw(seed)
+    for p, most in LARGEST:
+        for degree in range(1, most + 1):
+            poly = max(poly for poly in bare_plainly(p, degree) if len(poly) > degree and poly[-1] == 1)
+            for times in range(1, most // degree + 1):
+                yield degree, times, over_a_field(draw, p, poly, times, many)
+
+
+def beside_plainly(one, other):
+    """The two crews' tables along the middle of new ones."""
+    p, first, tables = one
+    size = first + other[1]
+    made = [[[0] * size for _ in range(size)] for _ in tables]
+    for table, ahead, behind in zip(made, tables, other[2]):
+        put_in(table, 0, 0, ahead)
+        put_in(table, first, first, behind)
+    return p, size, made
+
+
+def changed_plainly(crew, table):
+    p, size, tables = crew
+    back = contrary_plainly(p, table)
+    return p, size, [product_plainly(p, product_plainly(p, table, one), back) for one in tables]
+
+
+def goes_along_plainly(one, other, table):
+    p, _, tables = one
+    return all(product_plainly(p, ahead, table) == product_plainly(p, table, behind)
+               for ahead, behind in zip(tables, other[2]))
+
+
+def has_a_contrary(p, table):
+    size = len(table)
+    return len(table[0]) == size and len(mixtures(p, table, size)) == p ** size
+
+
+def all_tables(p, rows, columns):
+    """All tables of rests with so many rows and columns."""
+    return [[list(row) for row in picked] for picked in product(all_rows(p, columns), repeat=rows)]
+
+
 def is_whole(thing):
     return type(thing) is int
 

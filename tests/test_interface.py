@@ -21,6 +21,12 @@ FUNCTIONS = {
     "crews": ("is_crew(thing)", "turned_crew(crew)", "worths(crew, word)"),
     "spins": ("is_still(crew, form)", "spin(crew, rows)", "spun(crew, row)"),
     "looker": ("look(crew, paper)",),
+    "tight": ("still_span(crew)", "is_tight(crew)", "paper(crew)"),
+    "along": ("goes_along(one, other, thing)", "base(one, other)", "alike_tight(one, other)",
+              "field_degree(crew)"),
+    "several": ("changed(crew, table)", "beside(one, other)", "multiplied(one, other)"),
+    "towers": ("part(crew, lower, upper)", "tower(crew)", "is_tower(crew, thing)",
+               "pairing(crew, one, other)"),
 }
 
 CLASSES = {

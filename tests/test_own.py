@@ -3,10 +3,12 @@
 import unittest
 from copy import deepcopy
 
-from stillspans import crews, looker, polys, spans, spins, tables
-from stillspans.errors import NoPart, NoPaper, NoWord
-from tests.helper import (LARGEST, PRIMES, Draw, crew_with_a_still_span, drawn_word, lists_within,
-                          spoil, unit_rows)
+from stillspans import (along, crews, looker, polys, several, spans, spins, tables, tight,
+                        towers)
+from stillspans.errors import NoPair, NoPaper, NoPart, NotTight, NoTower, NoWord, TooMuch
+from tests.helper import (LARGEST, PRIMES, Draw, bare_plainly, beside_plainly, changed_plainly,
+                          companion, crew_with_a_still_span, drawn_word, lists_within, spoil,
+                          unit_rows, with_contrary)
 
 
 def spans_asked(p):
@@ -110,6 +112,72 @@ def crews_asked(p):
             yield spins.spun, (crew, rows[0])
 
 
+def some_tight(p):
+    """Tight crews by the prime: of size 1, and of the greatest size with unlike fields."""
+    most = dict(LARGEST)[p]
+    poly = max(poly for poly in bare_plainly(p, most) if len(poly) > most and poly[-1] == 1)
+    shift = unit_rows(most)[1:] + [[0] * most]
+    single = [[0] * most for _ in range(most - 1)] + [[1] + [0] * (most - 1)]
+    return ((p, 1, [[[p - 1]], [[0]]]), (p, most, [companion(p, poly), unit_rows(most)]),
+            (p, most, [shift, single]))
+
+
+def some_loose(p):
+    """Crews by the prime with still spans, two tables each; in the first one the same list twice."""
+    draw = Draw(1200 + p)
+    most = dict(LARGEST)[p]
+    table = [[0] * most for _ in range(most)]
+    row = unit_rows(2)[0]
+    half = crew_with_a_still_span(draw, p, max(1, most // 2), most // 4, 2)
+    return ((p, most, [table, table]), (p, 2, [[row, row], [row, row]]),
+            crew_with_a_still_span(draw, p, most, 1, 2), beside_plainly(half, half))
+
+
+def along_asked(p):
+    """Calls of stillspans.tight, stillspans.along and stillspans.several, as tuples likewise."""
+    draw = Draw(1300 + p)
+    one_row = (p, 1, [[[1]], [[0]]])
+    for crew in some_tight(p) + some_loose(p):
+        size = crew[1]
+        for function in (tight.still_span, tight.is_tight, tight.paper):
+            yield function, (crew,)
+        change = with_contrary(draw, p, size)
+        for other in (crew, one_row, changed_plainly(crew, change)):
+            for pair in ((crew, other), (other, crew)):
+                yield along.base, pair
+                for table in along.base(*pair)[:2] + [[], change, None]:
+                    yield along.goes_along, pair + (table,)
+        yield several.changed, (crew, change)
+        yield several.changed, (crew, unit_rows(size))
+        yield several.multiplied, (crew, one_row)
+        yield several.multiplied, (one_row, crew)
+        if size < dict(LARGEST)[p]:
+            yield several.beside, (crew, one_row)
+            yield several.beside, (one_row, crew)
+            yield several.beside, (one_row, one_row)
+    for crew in some_tight(p):
+        yield along.field_degree, (crew,)
+        for other in some_tight(p):
+            yield along.alike_tight, (crew, other)
+
+
+def towers_asked(p):
+    """Calls of stillspans.towers, as tuples likewise."""
+    for crew in some_tight(p) + some_loose(p):
+        forms = towers.tower(crew)
+        whole = unit_rows(crew[1])
+        yield towers.tower, (crew,)
+        yield towers.part, (crew, [], whole)
+        yield towers.part, (crew, [], forms[0])
+        if len(forms) > 1:
+            yield towers.part, (crew, forms[0], whole)
+            yield towers.part, (crew, forms[-2], forms[-1])
+        for thing in (forms, forms[1:], forms + forms, [whole, whole], [], None, ("x", [whole])):
+            yield towers.is_tower, (crew, thing)
+        yield towers.pairing, (crew, forms, forms)
+        yield towers.pairing, (crew, forms, towers.tower(crew))
+
+
 # crews and papers that are let by
 PAPERS = (((3, 2, [[[1, 1], [0, 1]], [[0, 1], [1, 0]]]),
            ("tight", [("table", 0)], [2, 1], [0, 1], [1, 0])),
@@ -133,6 +201,23 @@ def refused():
         yield crews.worths, (PAPERS[0][0], word), NoWord
     for paper in WRONG_PAPERS:
         yield looker.look, (PAPERS[0][0], paper), NoPaper
+    tight_one, loose, single = PAPERS[0][0], PAPERS[1][0], (3, 1, [[[2]]])
+    rows = unit_rows(2)
+    for function in (along.base, along.alike_tight, several.beside, several.multiplied):
+        yield function, (tight_one, loose), NoPair
+    yield along.goes_along, (tight_one, loose, rows), NoPair
+    yield along.alike_tight, (loose, single), NotTight
+    yield along.field_degree, (loose,), NotTight
+    for table in ([[0, 0], [0, 0]], [[1]]):
+        yield several.changed, (loose, table), NoPair
+    large = (3, 5, [unit_rows(5)])
+    yield several.beside, (large, single), TooMuch
+    yield several.multiplied, (loose, large), TooMuch
+    for lower, upper in ((rows, rows), (rows, []), ([], [[1, 0]]), ([[1, 0]], rows)):
+        yield towers.part, (loose, lower, upper), NoTower
+    for thing in ([], None, [rows], [[[1, 0]], rows], [[[0, 1]], rows, rows]):
+        yield towers.pairing, (loose, [[[0, 1]], rows], thing), NoTower
+        yield towers.pairing, (loose, thing, [[[0, 1]], rows]), NoTower
 
 
 def parts_within(thing):
@@ -146,7 +231,8 @@ def parts_within(thing):
 class Own(unittest.TestCase):
     def asked(self):
         for p in PRIMES:
-            for some in (spans_asked, polys_asked, tables_asked, crews_asked):
+            for some in (spans_asked, polys_asked, tables_asked, crews_asked, along_asked,
+                         towers_asked):
                 yield from some(p)
         for handed in PAPERS:
             yield looker.look, handed
@@ -184,11 +270,11 @@ class Own(unittest.TestCase):
     def test_whole_numbers_are_no_truths(self):
         for function, handed in self.asked():
             told = function(*handed)
-            if function.__name__.startswith(("is_", "has")):
+            if function.__name__.startswith(("is_", "has", "goes_")):
                 self.assertIs(type(told), bool)
             elif told is not None:
                 for one in parts_within(told):
-                    self.assertIn(type(one), (int, list, tuple), function.__name__)
+                    self.assertIn(type(one), (int, str, list, tuple), function.__name__)
 
     def test_refusals_change_nothing(self):
         for function, handed, refusal in refused():
