@@ -2,7 +2,7 @@
 
 from stillspans.crews import is_table, refuse_unfit
 from stillspans.errors import NotTight
-from stillspans.tables import all_along, product, shaped
+from stillspans.tables import all_along, contrary, product, shaped
 from stillspans.tight import is_tight
 
 
@@ -22,6 +22,16 @@ def base(one, other):
     return [shaped(row, other[1]) for row in all_along(one[0], one[2], other[2])]
 
 
+def undone_between(one, other):
+    """A table of the base from the one crew to the other that has a contrary, or None."""
+    if one[1] != other[1]:
+        return None
+    for table in base(one, other):
+        if contrary(one[0], table) is not None:
+            return table
+    return None
+
+
 def refuse_loose(crew):
     """Refuse a crew that is not tight."""
     if not is_tight(crew):
@@ -33,9 +43,7 @@ def alike_tight(one, other):
     refuse_unfit(one, other)
     refuse_loose(one)
     refuse_loose(other)
-    # what it leads to noughts and what it leads to are still: so each but noughts has one
-    found = base(one, other)
-    return found[0] if found else None
+    return undone_between(one, other)
 
 
 def field_degree(crew):

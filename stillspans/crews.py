@@ -51,21 +51,19 @@ def turned_crew(crew):
     return p, size, [turned(table) for table in tables]
 
 
-def bounds_of(crew, at, kind):
+def bounds_of(p, many, at, kind):
     """Below what each number of a step of the kind is, at its place; of no kind None."""
-    p, _, tables = crew
     # a step's number is ahead where it is below the step's own
-    bounds = {"plain": (), "table": (len(tables),), "times": (p, at), "sum": (at, at),
-              "product": (at, at)}
+    bounds = {"plain": (), "table": (many,), "times": (p, at), "sum": (at, at), "product": (at, at)}
     return bounds.get(kind)
 
 
-def is_step(crew, at, thing):
-    """Whether any thing is a step of a word of the crew, being its number at."""
+def is_step(p, many, at, thing):
+    """Whether any thing is a step, being its number at, of a word of a crew of so many tables."""
     # a list is no key: so none but texts are looked up
     if not isinstance(thing, tuple) or not thing or not isinstance(thing[0], str):
         return False
-    bounds = bounds_of(crew, at, thing[0])
+    bounds = bounds_of(p, many, at, thing[0])
     if bounds is None or len(thing) != len(bounds) + 1:
         return False
     return all([is_below(bound, number) for bound, number in zip(bounds, thing[1:])])
@@ -90,9 +88,10 @@ def worths(crew, word):
     """The tables of the steps of the word, in order."""
     if not isinstance(word, list) or len(word) < 1 or len(word) > MOST_STEPS:
         raise NoWord(0)
+    p, _, tables = crew
     told = []
     for at, step in enumerate(word):
-        if not is_step(crew, at, step):
+        if not is_step(p, len(tables), at, step):
             raise NoWord(at)
         told.append(worth(crew, told, step))
     return told

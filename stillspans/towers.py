@@ -1,11 +1,11 @@
 """Towers of still spans that can't be made finer, and the parts between their forms."""
 
-from stillspans.along import base
+from stillspans.along import undone_between
 from stillspans.errors import NoTower
 from stillspans.rests import mixture
 from stillspans.spans import has, is_low, lead, low
 from stillspans.spins import is_still, spin
-from stillspans.tables import contrary, led, plain
+from stillspans.tables import led, plain
 from stillspans.tight import is_tight, lines
 
 
@@ -84,23 +84,28 @@ def is_tower(crew, thing):
 
 
 def found_alike(one, others, taken):
-    """The number of one of the others, none of those taken, and a table to it."""
+    """The number of one of the others, none of those taken, and a table to it, or None."""
     for number, other in enumerate(others):
         if number not in taken:
-            found = base(one, other)
-            # between tight ones each but noughts has a contrary
-            if found:
-                return number, found[0]
+            table = undone_between(one, other)
+            if table is not None:
+                return number, table
     return None
+
+
+def paired(ones, others):
+    """The tuples (i, j, table) that pair off the crews, or None where one finds none."""
+    told = []
+    for number, one in enumerate(ones):
+        found = found_alike(one, others, [j for _, j, _ in told])
+        if found is None:
+            return None
+        told.append((number,) + found)
+    return told
 
 
 def pairing(crew, one, other):
     """The tuples (i, j, table) that pair off the parts of two towers of the crew."""
     if not is_tower(crew, one) or not is_tower(crew, other):
         raise NoTower("one of the two is no tower of the crew")
-    others = parts(crew, other)
-    told = []
-    for number, ahead in enumerate(parts(crew, one)):
-        behind, table = found_alike(ahead, others, [j for _, j, _ in told])
-        told.append((number, behind, table))
-    return told
+    return paired(parts(crew, one), parts(crew, other))

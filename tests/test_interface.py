@@ -27,11 +27,16 @@ FUNCTIONS = {
     "several": ("changed(crew, table)", "beside(one, other)", "multiplied(one, other)"),
     "towers": ("part(crew, lower, upper)", "tower(crew)", "is_tower(crew, thing)",
                "pairing(crew, one, other)"),
+    "closing": ("closing(crew)", "vanishing(crew)", "vanishing_power(crew)", "bottom(crew)",
+                "parts_wholly(crew)"),
+    "parting": ("parting(crew)", "falls_apart(crew)", "alike(one, other)"),
+    "texts": ("crew_text(crew)", "word_text(word)", "read_crew(text)", "read_word(text)"),
 }
 
 CLASSES = {
     "errors": ("SpanError", "NoPart", "NoWord", "NoPaper", "NoTower", "NoPair", "NotTight",
                "TooMuch", "NoText", "NoRow", "NoName"),
+    "desk": ("Desk",),
 }
 
 
@@ -56,6 +61,12 @@ class Interface(unittest.TestCase):
             for name in listed:
                 with self.subTest(name=name):
                     self.assertIn(name, defined(file, ast.ClassDef))
+
+    def test_the_desk(self):
+        desk = import_module("stillspans.desk").Desk
+        self.assertIn("say", vars(desk))
+        self.assertEqual(str(inspect.signature(desk)), "()")
+        self.assertEqual(str(inspect.signature(desk.say)), "(self, text)")
 
 
 if __name__ == "__main__":

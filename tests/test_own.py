@@ -3,9 +3,10 @@
 import unittest
 from copy import deepcopy
 
-from stillspans import (along, crews, looker, polys, several, spans, spins, tables, tight,
-                        towers)
-from stillspans.errors import NoPair, NoPaper, NoPart, NotTight, NoTower, NoWord, TooMuch
+from stillspans import (along, closing, crews, looker, parting, polys, several, spans, spins,
+                        tables, texts, tight, towers)
+from stillspans.errors import (NoPair, NoPaper, NoPart, NoText, NotTight, NoTower, NoWord,
+                               TooMuch)
 from tests.helper import (LARGEST, PRIMES, Draw, bare_plainly, beside_plainly, changed_plainly,
                           companion, crew_with_a_still_span, drawn_word, lists_within, spoil,
                           unit_rows, with_contrary)
@@ -178,6 +179,27 @@ def towers_asked(p):
         yield towers.pairing, (crew, forms, towers.tower(crew))
 
 
+def closings_asked(p):
+    """Calls of stillspans.closing and stillspans.parting, as tuples likewise."""
+    draw = Draw(1400 + p)
+    for crew in some_tight(p) + some_loose(p):
+        for function in (closing.closing, closing.vanishing, closing.vanishing_power, closing.bottom,
+                         closing.parts_wholly, parting.parting, parting.falls_apart):
+            yield function, (crew,)
+        yield parting.alike, (crew, (p, 1, [[[1]], [[0]]]))
+        yield parting.alike, (crew, changed_plainly(crew, with_contrary(draw, p, crew[1])))
+
+
+def texts_asked(p):
+    """Calls of stillspans.texts, as tuples likewise."""
+    for crew in some_tight(p) + some_loose(p):
+        yield texts.crew_text, (crew,)
+        yield texts.read_crew, (texts.crew_text(crew),)
+    for text in ("plain", "t0 t0 1*0 1*0 0+0 0+0 0.0 0.0", "plain plain t3 10*1"):
+        yield texts.read_word, (text,)
+        yield texts.word_text, (texts.read_word(text),)
+
+
 # crews and papers that are let by
 PAPERS = (((3, 2, [[[1, 1], [0, 1]], [[0, 1], [1, 0]]]),
            ("tight", [("table", 0)], [2, 1], [0, 1], [1, 0])),
@@ -218,6 +240,10 @@ def refused():
     for thing in ([], None, [rows], [[[1, 0]], rows], [[[0, 1]], rows, rows]):
         yield towers.pairing, (loose, [[[0, 1]], rows], thing), NoTower
         yield towers.pairing, (loose, thing, [[[0, 1]], rows]), NoTower
+    yield parting.alike, (tight_one, loose), NoPair
+    for text in ("", "plain ", "prime 3\nsize 1\ntable\n3", "prime 3\nsize 1\ntable\n1\n"):
+        yield texts.read_crew, (text,), NoText
+        yield texts.read_word, (text,), NoText
 
 
 def parts_within(thing):
@@ -232,7 +258,7 @@ class Own(unittest.TestCase):
     def asked(self):
         for p in PRIMES:
             for some in (spans_asked, polys_asked, tables_asked, crews_asked, along_asked,
-                         towers_asked):
+                         towers_asked, closings_asked, texts_asked):
                 yield from some(p)
         for handed in PAPERS:
             yield looker.look, handed
@@ -270,7 +296,7 @@ class Own(unittest.TestCase):
     def test_whole_numbers_are_no_truths(self):
         for function, handed in self.asked():
             told = function(*handed)
-            if function.__name__.startswith(("is_", "has", "goes_")):
+            if function.__name__.startswith(("is_", "has", "goes_", "falls_", "parts_")):
                 self.assertIs(type(told), bool)
             elif told is not None:
                 for one in parts_within(told):

@@ -167,14 +167,16 @@ class Told(Towers):
                     self.assertTrue(tower_by_the_words(crew, tower(crew)), crew)
 
     def test_of_each_size(self):
-        for crew in many_kinds(312):
+        for at, crew in enumerate(many_kinds(312)):
             told = tower(crew)
             self.assertIs(type(told), list)
             for form in told:
                 self.assertIs(type(form), list)
                 self.assertTrue(low_by_the_words(form), crew)
                 self.assertTrue(all(type(row) is list and len(row) == crew[1] for row in form))
-            self.assertTrue(tower_by_the_words(crew, told), crew)
+            # the plain look is slow at large crews
+            if crew[0] ** crew[1] <= 128 or at % 4 == 0:
+                self.assertTrue(tower_by_the_words(crew, told), crew)
             self.assertIs(is_tower(crew, told), True, crew)
 
     def test_noughts_and_plain_alone(self):
